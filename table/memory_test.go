@@ -1,7 +1,6 @@
 package table_test
 
 import (
-	"fmt"
 	"math/rand"
 	"reflect"
 	"slices"
@@ -225,7 +224,6 @@ func TestP15_4_Encode(t *testing.T) {
 			}
 			want := string(b)
 			again, _ := table.Encode(m)
-			// As bytes: no list of a method is of that kind, but a piece of memory is one.
 			apart(t, k.name, m, b, again)
 			scribble(m)
 			is(t, k.name+": behind what the caller wrote", string(b), want)
@@ -259,15 +257,5 @@ func TestP15_4_TakeAndDecode(t *testing.T) {
 		scribble(one.list)
 		is(t, "another answer", two.list, list)
 		is(t, "a later answer", take(b).list, list)
-	}
-}
-
-// What a caller writes over isn't a form that is handed out anew.
-func TestP15_4_FormsStay(t *testing.T) {
-	for range 2 {
-		for _, k := range kinds() {
-			form, there := table.Form(k.class, k.id)
-			is(t, fmt.Sprint(k.name, " ", there), form, k.form)
-		}
 	}
 }
